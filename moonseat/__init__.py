@@ -1,0 +1,1 @@
+"""Moonseat: linked verse whose sheets can always be ended."""
