@@ -1,7 +1,7 @@
 """Rows and sheets: which stand, and how a stand goes on."""
 
 from moonseat.errors import Broken, NoKind, TooLong
-from moonseat.stands import breach, empty_stand, stand_with
+from moonseat.stands import breach, empty_stand, stand_with, stepped
 
 
 def is_kind(rules, number):
@@ -65,6 +65,4 @@ def step(rules, stand, kind):
     """The stand behind one verse more, or None where none can be."""
     if not is_kind(rules, kind):
         raise NoKind("the verse's number is no kind")
-    if stand[0] >= rules.size or breach(rules, stand, kind) is not None:
-        return None
-    return stand_with(rules, stand, kind)
+    return stepped(rules, stand, kind)

@@ -117,3 +117,40 @@ def breach(rules, stand, kind):
     if is_cut(rules, stand, kind):
         return "cut"
     return None
+
+
+def stepped(rules, stand, kind):
+    """The stand behind one verse more of this kind, or None where none can be."""
+    if stand[0] >= rules.size or breach(rules, stand, kind) is not None:
+        return None
+    return stand_with(rules, stand, kind)
+
+
+def steps_from(rules, stand):
+    """The pairs of a kind and the step by it, for each kind by which there is one, rising."""
+    steps = []
+    for kind in range(rules.many()):
+        after = stepped(rules, stand, kind)
+        if after is not None:
+            steps.append((kind, after))
+    return steps
+
+
+def layers_from(rules, stand):
+    """All stands to which steps lead from this one: a list of dicts, one for each place from its own on.
+
+    Each dict has the place's stands, and for each of them its steps. The last one
+    has stands at the size just where some whole sheet goes on.
+    """
+    layers = []
+    ahead = [stand]
+    while ahead:
+        layer = {}
+        behind = {}
+        for each in ahead:
+            layer[each] = steps_from(rules, each)
+            for kind, after in layer[each]:
+                behind[after] = True
+        layers.append(layer)
+        ahead = list(behind)
+    return layers

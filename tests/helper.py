@@ -52,6 +52,50 @@ def wide_parts(rng):
     return parts(rng, *counts)
 
 
+def small_parts(rng):
+    """The five things of a book of size 1 to 6 with few rules."""
+    return loose_parts(rng, 6)
+
+
+def roomy_parts(rng):
+    """The five things of a book of size 20 to 30 with very many sheets."""
+    size, many = rng.randint(20, 30), rng.randint(2, 4)
+    size, kinds, shuns, bars, dues = parts(rng, size, many, rng.randint(0, 2), rng.randint(0, 2), rng.randint(0, 3))
+    return size, [(rng.randint(1, 2), rng.randint(2, 4), rng.randint(0, 2)) for kind in kinds], shuns, bars, dues
+
+
+def planted_row(rng, kinds, length):
+    """A row of about this length that ends with a run that isn't cut, under these kinds alone."""
+    row = []
+    while True:
+        others = [kind for kind in range(len(kinds)) if not row or row[-1] != kind]
+        fitting = [kind for kind in others if not words_due((99, kinds, [], [], []), row + [kind], len(row) + 1)]
+        if not fitting:
+            return row
+        kind = rng.choice(fitting)
+        run = rng.randint(*kinds[kind][:2])
+        if len(row) + run > length:
+            return row or [kind] * run
+        row += [kind] * run
+
+
+def planted_parts(rng):
+    """The five things of a book to the size of 30 with many rules, and yet with a whole sheet."""
+    kinds = [kind_triple(rng) for each in range(rng.randint(1, 4))]
+    row = planted_row(rng, kinds, rng.randint(1, 30))
+    size = len(row)
+    wanted = (rng.randint(0, 20), rng.randint(0, 12), rng.randint(0, 3))
+    found = ([], [], [])
+    for each in range(400):
+        made = parts(rng, size, len(kinds), 1, 1, 1)
+        for at, rows in enumerate(found):
+            lone = [[], [], []]
+            lone[at] = made[2 + at]
+            if len(rows) < wanted[at] and first_breach((size, kinds, *lone), row) is None:
+                rows += made[2 + at]
+    return (size, kinds, *found)
+
+
 def random_books(seed, count, maker=loose_parts):
     rng = random.Random(seed)
     for each in range(count):
@@ -179,3 +223,65 @@ def step_said(given, stand, kind):
             now.append(max(waits[each] - 1, 0))
     reached = tuple(m or (k == kind and a <= here <= b) for (k, a, b), m in zip(dues, met))
     return (here, kind, length + 1 if kind == last else 1, last, tuple(now), reached)
+
+
+def odd_stand(rng, given, place):
+    """A stand of the form of point 4 at this place, whether or not some row has it."""
+    size, kinds, shuns, bars, dues = given
+    many = len(kinds)
+    waits = tuple(rng.choice((0, 0, 1, 2, 3, 4)) for kind in kinds)
+    met = tuple(rng.random() < 0.5 for due in dues)
+    return (place, rng.randint(-1, many - 1), rng.randint(0, 4), rng.randint(-1, many - 1), waits, met)
+
+
+def other_field(rng, given, stand):
+    """The stand with one field changed, still of the form of point 4."""
+    fields = list(stand)
+    while tuple(fields) == stand:
+        at = rng.randrange(6)
+        fields[at] = odd_stand(rng, given, rng.randint(0, given[0]))[at]
+    return tuple(fields)
+
+
+def closed_said(given, row, table):
+    """Whether a table is closed for a row that stands, by the words of point 7."""
+    size, many = given[0], len(given[1])
+    if len(table) == 0 or stand_said(given, row) not in table[0]:
+        return False
+    for i in range(len(table)):
+        for stand in table[i]:
+            if stand[0] != len(row) + i or stand[0] >= size:
+                return False
+            for kind in range(many):
+                after = step_said(given, stand, kind)
+                if after is not None and (i + 1 == len(table) or after not in table[i + 1]):
+                    return False
+    return True
+
+
+def cost_said(row, costs, sheet):
+    """What a mending costs, by the words of point 8."""
+    return sum(cost for verse, cost, other in zip(row, costs, sheet) if verse != other)
+
+
+def shown_said(given, row, costs, prices, cost):
+    """Whether prices show a number, by the words of point 9."""
+    size, many = given[0], len(given[1])
+    if len(prices) == 0:
+        return False
+    if not any(stand == stand_said(given, []) and number >= cost for stand, number in prices[0]):
+        return False
+    for i, pairs in enumerate(prices):
+        stands = [stand for stand, number in pairs]
+        following = prices[i + 1] if i + 1 < len(prices) else []
+        for stand, number in pairs:
+            if stand[0] != i or stands.count(stand) != 1 or (i == size and number > 0):
+                return False
+            for kind in range(many):
+                after = step_said(given, stand, kind)
+                if after is None:
+                    continue
+                room = [other for found, other in following if found == after]
+                if not room or number > room[0] + (0 if row[i] == kind else costs[i]):
+                    return False
+    return True
