@@ -39,6 +39,27 @@ def sheet_at(rules, row, counts, number):
     return sheet
 
 
+def can_be_ended(rules, stand, known):
+    """Whether some sheet goes on from the stand; known keeps what was found of this rule book's stands so far.
+
+    Unlike a count this is found with the first sheet, so that most stands are never looked at.
+    """
+    if stand[0] == rules.size:
+        return True
+    if stand not in known:
+        steps = steps_from(rules, stand)
+        known[stand] = any_can_be_ended(rules, [after for kind, after in steps], known)
+    return known[stand]
+
+
+def any_can_be_ended(rules, stands, known):
+    """Whether some sheet goes on from one of the stands."""
+    for stand in stands:
+        if can_be_ended(rules, stand, known):
+            return True
+    return False
+
+
 def ways(rules, row):
     """The count of the sheets that go on from the row."""
     stand = stand_of(rules, row)

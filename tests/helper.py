@@ -4,9 +4,13 @@ What is reckoned here looks at whole rows and never asks the package, so that
 the two can disagree.
 """
 
+import copy
+import functools
 import itertools
 import random
+import re
 
+from moonseat.errors import VerseError
 from moonseat.rules import Rules
 
 WORDS = ("barred", "long", "short", "early", "shun", "due", "cut")
@@ -285,3 +289,302 @@ def shown_said(given, row, costs, prices, cost):
                 if not room or number > room[0] + (0 if row[i] == kind else costs[i]):
                     return False
     return True
+
+
+def told(rules):
+    """The five things of a rule book, as it tells them."""
+    return (rules.size, rules.kinds(), rules.shuns(), rules.bars(), rules.dues())
+
+
+def nearby(rng, given):
+    """The five things of a book with one kind, shun, bar or due changed, one more or one less."""
+    size, *lists = given
+    lists = [list(rows) for rows in lists]
+    which = rng.randrange(4)
+    rows, fresh = lists[which], parts(rng, size, len(given[1]), 1, 1, 1)[which + 1][0]
+    if which == 0:
+        least, most, rest = rng.choice(rows)
+        near = [(least, most, abs(rest - 1)), (1, most, rest), (least, least, rest), (least, 4, rest), fresh]
+        rows[rng.randrange(len(rows))] = rng.choice(near)
+    elif rows and rng.random() < 0.5:
+        at = rng.randrange(len(rows))
+        rows[at:at + 1] = rng.choice(([], [fresh]))
+    elif len(rows) < (20, 12, 3)[which - 1]:
+        rows.insert(rng.randint(0, len(rows)), fresh)
+    return (size, *lists)
+
+
+def resized(rng, given):
+    """The five things of a book with one verse more or less; spans that lie beyond are out."""
+    size = max(1, min(30, given[0] + rng.choice((-1, 1))))
+    bars, dues = [[each for each in rows if each[2] <= size] for rows in given[3:]]
+    return (size, given[1], given[2], bars, dues)
+
+
+def frozen(given):
+    """The five things as a tuple of tuples, fit as a key."""
+    return (given[0], *(tuple(rows) for rows in given[1:]))
+
+
+@functools.lru_cache(maxsize=None)
+def sheets_of(key):
+    """All whole sheets of a small book, the least first."""
+    return standing_rows(key, key[0])
+
+
+def sheets_on(given, row):
+    """All whole sheets of a small book that begin with a row, the least first."""
+    return [sheet for sheet in sheets_of(frozen(given)) if sheet[:len(row)] == row]
+
+
+@functools.lru_cache(maxsize=200)
+def counter(key):
+    """What counts the sheets that go on from a stand of a book, by the steps of point 5; for None it tells 0."""
+    found = {None: 0}
+
+    def count(stand):
+        if stand not in found:
+            after = [step_said(key, stand, kind) for kind in range(len(key[1]))]
+            found[stand] = 1 if stand[0] == key[0] else sum(map(count, after))
+        return found[stand]
+
+    return count
+
+
+def is_name_said(text):
+    return re.fullmatch("[a-z]{1,8}", text) is not None
+
+
+class HouseSaid:
+    """A house by the words of points 13 and 14, for small books: all sheets are gone through one by one.
+
+    Deeds are tuples as in point 13, with a book's five things in the place of a
+    rule book. Each deed is kept with a copy of all that was there ahead of it.
+    """
+
+    def __init__(self, given):
+        self.first = self.given = given
+        self.sheets = []
+        self.deeds = []
+        self.past = []
+        self.later = []
+
+    def named(self, name):
+        return next((sheet for sheet in self.sheets if sheet["name"] == name), None)
+
+    def row_refusals(self, row, place):
+        """Those of a row that is as the house's rows are, but for the kind at a place."""
+        if not 0 <= row[place - 1] < len(self.given[1]):
+            return ["NoKind"]
+        breach = first_breach(self.given, row)
+        if breach is not None:
+            return [("Broken", breach)]
+        return [] if self.on(self.given, row)[0] else ["Stuck"]
+
+    def on(self, given, row):
+        """How many sheets go on, the least of them, and the kinds that come next in them."""
+        found = sheets_on(given, row)
+        return (len(found), found[0] if found else None, sorted({sheet[len(row)] for sheet in found if sheet != row}))
+
+    def new_refusals(self, name):
+        found = [] if is_name_said(name) else ["BadName"]
+        found += ["Known"] if self.named(name) else []
+        return found + (["Many"] if len(self.sheets) == 8 else [])
+
+    def refusals(self, deed):
+        """All refusals that are due, in the order in which they go first."""
+        word, *things = deed
+        if word == "begin":
+            return self.new_refusals(*things) + ([] if self.on(self.given, [])[0] else ["Stuck"])
+        if word == "change":
+            return self.change_refusals(*things)
+        sheet = self.named(things[0])
+        if sheet is None:
+            return ["NoName"]
+        return getattr(self, word + "_refusals", self.no_refusals)(sheet, *things[1:])
+
+    def no_refusals(self, sheet):
+        return []
+
+    def fork_refusals(self, sheet, new):
+        return self.new_refusals(new)
+
+    def offer_refusals(self, sheet, poet, kind):
+        found = [] if is_name_said(poet) else ["BadName"]
+        if len(sheet["row"]) == self.given[0]:
+            return found + ["Whole"]
+        found += ["SamePoet"] if sheet["poets"][-1:] == [poet] else []
+        return found + self.row_refusals(sheet["row"] + [kind], len(sheet["row"]) + 1)
+
+    def take_refusals(self, sheet):
+        return ["Turned"] if len(sheet["row"]) == sheet["turned"] else []
+
+    turn_refusals = take_refusals
+
+    def amend_refusals(self, sheet, place, kind):
+        if place not in range(1, len(sheet["row"]) + 1):
+            return ["NoPlace"]
+        row = sheet["row"][:place - 1] + [kind] + sheet["row"][place:]
+        return (["Turned"] if place <= sheet["turned"] else []) + self.row_refusals(row, place)
+
+    def change_refusals(self, given):
+        lost = [sheet["name"] for sheet in self.sheets if not self.on(given, sheet["row"])[0]]
+        return [("Stranded", (lost[0],))] if lost else []
+
+    def do(self, deed):
+        """Do a deed; tells the first refusal, or None."""
+        found = self.refusals(deed)
+        if found:
+            return found[0]
+        self.past.append(self.copied())
+        self.later = []
+        self.deeds = self.deeds + [deed]
+        self.carry_out(*deed)
+        return None
+
+    def carry_out(self, word, name, *things):
+        sheet = self.named(name)
+        if word == "begin":
+            self.sheets.append({"name": name, "poets": [], "row": [], "turned": 0})
+        elif word == "offer":
+            sheet["poets"].append(things[0])
+            sheet["row"].append(things[1])
+        elif word == "take":
+            del sheet["poets"][-1], sheet["row"][-1]
+        elif word == "amend":
+            sheet["row"][things[0] - 1] = things[1]
+        elif word == "turn":
+            sheet["turned"] = len(sheet["row"])
+        elif word == "fork":
+            self.sheets.append(dict(copy.deepcopy(sheet), name=things[0]))
+        elif word == "drop":
+            self.sheets.remove(sheet)
+        else:
+            self.given = name
+
+    def copied(self):
+        return (self.given, copy.deepcopy(self.sheets), list(self.deeds))
+
+    def move(self, ahead, behind):
+        if not ahead:
+            return "NothingLeft"
+        behind.append(self.copied())
+        self.given, self.sheets, self.deeds = ahead.pop()
+        return None
+
+    def back(self):
+        return self.move(self.past, self.later)
+
+    def again(self):
+        return self.move(self.later, self.past)
+
+    def seen(self):
+        """All that a house tells."""
+        sheets = []
+        for sheet in self.sheets:
+            verses = list(zip(sheet["poets"], sheet["row"]))
+            sheets.append((sheet["name"], verses, sheet["turned"], *self.on(self.given, sheet["row"])))
+        return (self.given, self.first, self.deeds, sheets)
+
+
+class GreatHouseSaid(HouseSaid):
+    """The same for books of any size: the sheets are counted by stands."""
+
+    def on(self, given, row):
+        count = counter(frozen(given))
+        if len(row) > given[0] or not all(kind in range(len(given[1])) for kind in row) or first_breach(given, row):
+            return (0, None, [])
+        stand = stand_said(given, row)
+        plan, fitting = list(row), self.fitting(given, count, stand)
+        while len(plan) < given[0] and count(stand):
+            kind = self.fitting(given, count, stand)[0]
+            plan.append(kind)
+            stand = step_said(given, stand, kind)
+        return (count(stand_said(given, row)), plan, fitting)
+
+    def fitting(self, given, count, stand):
+        return [kind for kind in range(len(given[1])) if count(step_said(given, stand, kind))]
+
+
+def house_seen(house):
+    """All that a house tells, in the form in which HouseSaid tells it."""
+    deeds = [("change", told(deed[1])) if deed[0] == "change" else deed for deed in house.deeds()]
+    sheets = [
+        (name, house.verses(name), house.turned(name), house.onwards(name), house.plan(name), house.fitting(name))
+        for name in house.names()
+    ]
+    return (told(house.rules()), told(house.first()), deeds, sheets)
+
+
+def house_does(house, deed):
+    """Do a deed of the form that HouseSaid takes; tells the refusal as HouseSaid does, or None."""
+    word, *things = deed
+    if word == "change":
+        things = [Rules(*things[0])]
+    return refusal_of(lambda: getattr(house, word)(*things))
+
+
+def refusal_of(call):
+    """The name of the refusal, with its fields where it has some, or None; what is told must be None then."""
+    try:
+        answer = call()
+    except VerseError as error:
+        fields = {"Broken": ("place", "word"), "Stranded": ("name",), "BadRow": ("at",)}
+        name = type(error).__name__
+        if name in fields:
+            return (name, tuple(getattr(error, field) for field in fields[name]))
+        return name
+    assert answer is None, answer
+    return None
+
+
+NAMES = ("a", "b", "moon", "seat", "abcdefgh", "z", "snow", "pine", "crane", "dew")
+BAD_NAMES = ("", "abcdefghi", "A", "aB", "a1", "7", " ", "a b", "a ", "`", "{", "a;b", "a\n")
+
+
+def drawn_book(rng, said):
+    """A book near to the one that the house has; most have a whole sheet."""
+    for each in range(6):
+        given = rng.choice((nearby, nearby, resized))(rng, said.given)
+        if said.on(given, [])[0] or rng.random() < 0.05:
+            break
+    return given
+
+
+def drawn_kind(rng, given):
+    """A kind of the book; now and then none."""
+    many = len(given[1])
+    return rng.choice((-1, many, 10 ** 6)) if rng.random() < 0.05 else rng.randrange(many)
+
+
+def drawn_deed(rng, said):
+    """A deed for a house as it is now: most are fit to be done, some are not."""
+    names = [sheet["name"] for sheet in said.sheets]
+    words = ("begin", "fork", "drop", "take", "turn", "change") + ("offer",) * 8 + ("amend",) * 4
+    word = rng.choice(words if names or rng.random() < 0.2 else ("begin", "begin", "change"))
+    name = rng.choice(BAD_NAMES + NAMES) if rng.random() < 0.04 or not names else rng.choice(names)
+    new = rng.choice(BAD_NAMES if rng.random() < 0.06 else NAMES)
+    sheet = said.named(name) or {"row": [], "turned": 0}
+    if word == "begin":
+        return (word, new)
+    if word == "offer":
+        return (word, name, new, drawn_kind(rng, said.given))
+    if word == "amend":
+        least = 0 if rng.random() < 0.2 else min(sheet["turned"] + 1, len(sheet["row"]))
+        place = rng.randint(least, len(sheet["row"]) + rng.choice((0, 0, 0, 1)))
+        return (word, name, place, drawn_kind(rng, said.given))
+    if word == "fork":
+        return (word, name, new)
+    if word == "change":
+        return (word, drawn_book(rng, said))
+    return (word, name)
+
+
+def with_a_sheet(maker):
+    """What draws like the maker until a book has a whole sheet."""
+    def drawn(rng):
+        while True:
+            given = maker(rng)
+            if counter(frozen(given))(stand_said(given, [])):
+                return given
+    return drawn

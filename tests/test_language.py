@@ -21,6 +21,11 @@ NO_WORDS = re.compile(
     r"\b(type|typing|typing_extensions|enum|Enum|IntEnum|StrEnum|Flag|IntFlag|Generic|Protocol|ABC|ABCMeta|"
     r"namedtuple|NamedTuple|TypedDict|TYPE_CHECKING|abstractmethod)\b|dataclass|overload|contextmanager"
 )
+METHODS = set(
+    "append clear copy count endswith extend find get index insert isalnum isalpha isdigit islower isspace isupper "
+    "items join keys ljust lower lstrip partition pop remove replace reverse rfind rjust rpartition rsplit rstrip "
+    "setdefault split splitlines startswith strip update upper values zfill bit_length add discard sort".split()
+)
 NO_NAMES = set("register mro elements open input version_info with_traceback add_note format format_map".split())
 
 
@@ -67,6 +72,20 @@ class NamesTest(unittest.TestCase):
                 self.assertEqual(node.orelse, [], (name, node.lineno))
             if isinstance(node, ast.Compare) and isinstance(node.ops[0], (ast.Is, ast.IsNot)):
                 self.assertIsInstance(node.comparators[0], ast.Constant, (name, node.lineno))
+
+    def test_stars_stand_in_what_is_given_alone(self):
+        for name, node in nodes():
+            if isinstance(node, ast.Starred):
+                self.assertIsInstance(node.ctx, ast.Store, (name, node.lineno))
+            if isinstance(node, ast.arguments):
+                self.assertEqual((node.vararg, node.kwarg, node.posonlyargs), (None, None, []), name)
+
+    def test_methods_and_values_are_known(self):
+        own = {node.name for name, node in nodes() if isinstance(node, ast.FunctionDef)}
+        own |= {n.attr for name, n in nodes() if isinstance(n, ast.Attribute) and isinstance(n.ctx, ast.Store)}
+        for name, node in nodes():
+            if isinstance(node, ast.Attribute):
+                self.assertIn(node.attr, own | METHODS, (name, node.lineno))
 
     def test_names_are_plain(self):
         for name, node in nodes():

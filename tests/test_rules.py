@@ -5,14 +5,10 @@ import unittest
 
 from moonseat.errors import BadRules
 from moonseat.rules import Rules
-from tests.helper import parts, random_books, wide_parts
+from tests.helper import parts, random_books, told, wide_parts
 
 KIND = (1, 2, 1)
 FAR_BELOW, FAR_ABOVE = -10 ** 6, 10 ** 6
-
-
-def told(rules):
-    return (rules.size, rules.kinds(), rules.shuns(), rules.bars(), rules.dues())
 
 
 class GoodBooksTest(unittest.TestCase):
